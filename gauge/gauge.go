@@ -1,0 +1,61 @@
+// Package gauge: packet filters: see DOC.md.
+package gauge
+
+import (
+	"errors"
+
+	"gauge/api"
+	"gauge/check"
+	"gauge/insn"
+)
+
+// Bad is what each fault of a filter wraps (P4).
+var Bad = errors.New("a bad filter")
+
+// Decode reads instructions (P3).
+func Decode(filter []byte) ([]api.Insn, api.Errno) { return insn.Decode(filter) }
+
+// Encode writes instructions (P3).
+func Encode(l []api.Insn) []byte { return insn.Encode(l) }
+
+// Check tells the fault of a filter, and its place (P4).
+func Check(filter []byte) (api.Errno, int) {
+	var fault *api.Fault
+	if errors.As(Verify(filter), &fault) {
+		return fault.Code, fault.At
+	}
+	return api.OK, 0
+}
+
+// Verify tells the same as an error (P4).
+func Verify(filter []byte) error { return check.Filter(filter, Bad) }
+
+// Run tells a filter's verdict of a packet (P5).
+func Run(filter []byte, packet []byte) (int, api.Errno) { return 0, api.OK }
+
+// Exec runs code of the stack machine (P6).
+func Exec(code []byte, packet []byte) (int, int, api.Errno) { return 0, 0, api.OK }
+
+// Compile makes code of a filter (P7).
+func Compile(filter []byte) ([]byte, api.Errno) { return nil, api.OK }
+
+// Net is some sockets.
+type Net struct{}
+
+// New makes sockets without filters (P8).
+func New() *Net { return nil }
+
+// Attach gives a socket a filter (P8).
+func (n *Net) Attach(socket int, filter []byte, compiled bool) api.Errno { return api.OK }
+
+// Detach takes a socket's filter away (P8).
+func (n *Net) Detach(socket int) api.Errno { return api.OK }
+
+// Frame: a packet comes in (P8).
+func (n *Net) Frame(packet []byte) api.Errno { return api.OK }
+
+// Receive takes what waits first (P8).
+func (n *Net) Receive(socket int) ([]byte, api.Errno) { return nil, api.OK }
+
+// Dropped tells how many packets found no room (P8).
+func (n *Net) Dropped(socket int) int { return 0 }
