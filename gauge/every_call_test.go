@@ -28,6 +28,27 @@ func hardFilters() [][]byte {
 	return list
 }
 
+// hardCode: what a careless machine stumbles over.
+func hardCode() [][]byte {
+	list := [][]byte{nil, {}, make([]byte, 1<<20), bytes.Repeat(raw(6), 1<<20), bytes.Repeat(raw(7, 0, 0), 1<<18), bytes.Repeat(raw(7, 255, 255), 1<<18)}
+	for first := range 256 {
+		for _, n := range []byte{0, 1, 4, 9, 10, 17, 18, 255} {
+			piece := raw(byte(first), n, n, n, n)
+			list = append(list, piece, piece[:2], all(pushes(2), piece), all(pushes(8), piece, raw(9)))
+		}
+	}
+	r := source()
+	for range 2000 {
+		list = append(list, randomBytes(r), randomCode(r))
+	}
+	return list
+}
+
+// somePackets: of lengths at which something changes.
+func somePackets() [][]byte {
+	return [][]byte{nil, {}, packetOf(1), packetOf(40), packetOf(api.MaxPacket), packetOf(api.MaxPacket + 1)}
+}
+
 func TestP1NoPanic(t *testing.T) {
 	for _, b := range hardFilters() {
 		list, code := gauge.Decode(b)
@@ -38,6 +59,14 @@ func TestP1NoPanic(t *testing.T) {
 		gauge.Check(b)
 		if err := gauge.Verify(b); err != nil && err.Error() == "" {
 			t.Fatalf("P1: Verify(% x) tells nothing", b)
+		}
+		for _, packet := range somePackets() {
+			gauge.Run(b, packet)
+		}
+	}
+	for _, code := range hardCode() {
+		for _, packet := range somePackets() {
+			gauge.Exec(code, packet)
 		}
 	}
 	gauge.Encode(make([]api.Insn, 3*api.MaxFilter))
@@ -72,18 +101,58 @@ func TestP1ErrorAlone(t *testing.T) {
 			t.Errorf("P1: Decode of %d bytes = %v, %d", n, list, code)
 		}
 	}
+	for _, packet := range somePackets() {
+		for _, b := range hardFilters() {
+			if verdict, code := gauge.Run(b, packet); code != api.OK && verdict != 0 {
+				t.Fatalf("P1: Run(% x) = %d, %d", b, verdict, code)
+			}
+		}
+		for _, b := range hardCode() {
+			if result, steps, code := gauge.Exec(b, packet); code != api.OK && result != 0 || code == api.ErrArg && steps != 0 {
+				t.Fatalf("P1: Exec(% x) = %d, %d, %d", b, result, steps, code)
+			}
+		}
+	}
+}
+
+// Of a wrong filter and a packet that is too long the filter is named first.
+func TestP1WhichIsFirst(t *testing.T) {
+	long := packetOf(api.MaxPacket + 1)
+	for _, b := range hardFilters() {
+		want, _ := gauge.Check(b)
+		if want == api.OK {
+			want = api.ErrArg
+		}
+		if _, code := gauge.Run(b, long); code != want {
+			t.Fatalf("P1: Run(% x) of a packet that is too long: %d, want %d", b, code, want)
+		}
+	}
 }
 
 func TestP2ArgumentsStay(t *testing.T) {
+	packet, packetRoom := inRoom(packetOf(20))
+	packetBefore := bytes.Clone(packetRoom)
 	for _, b := range hardFilters() {
 		filter, room := inRoom(b)
 		before := bytes.Clone(room)
 		gauge.Decode(filter)
 		gauge.Check(filter)
 		gauge.Verify(filter)
+		gauge.Run(filter, packet)
 		if !bytes.Equal(room, before) {
 			t.Fatalf("P2: a call wrote into % x or beside it", b)
 		}
+	}
+	for _, b := range hardCode() {
+		code, room := inRoom(b)
+		before := bytes.Clone(room)
+		gauge.Exec(code, packet)
+		if !bytes.Equal(room, before) {
+			t.Fatalf("P2: Exec wrote into % x or beside it", b)
+		}
+	}
+	if !bytes.Equal(packetRoom, packetBefore) {
+		t.Errorf("P2: a call wrote into a packet or beside it: % x", packetRoom)
 	}
 	list := make([]api.Insn, 9)
 	for i := range list {
@@ -144,28 +213,42 @@ func TestP2FaultIsNew(t *testing.T) {
 	}
 }
 
-// What was called ahead, and what stands beside a filter, is not seen in an answer.
+// answer is what the calls answer of some bytes, taken as a filter and as code.
+type answer struct {
+	list          []api.Insn
+	bytes         []byte
+	code          api.Errno
+	place         int
+	verdict       int
+	result, steps int
+	fault         api.Errno
+}
+
+func answerOf(b, packet []byte) (a answer) {
+	a.list, _ = gauge.Decode(b)
+	a.bytes = gauge.Encode(a.list)
+	a.code, a.place = gauge.Check(b)
+	a.verdict, _ = gauge.Run(b, packet)
+	a.result, a.steps, a.fault = gauge.Exec(b, packet)
+	return a
+}
+
+// What was called ahead, and what stands beside the bytes that are handed in, is not seen in an answer.
 func TestP2SameAnswers(t *testing.T) {
-	type answer struct {
-		list  []api.Insn
-		bytes []byte
-		code  api.Errno
-		place int
+	lists := append(hardFilters(), hardCode()...)
+	r := source()
+	for range 2000 {
+		lists = append(lists, filterOf(randomProgram(r)...))
 	}
-	ask := func(b []byte) (a answer) {
-		a.list, _ = gauge.Decode(b)
-		a.bytes = gauge.Encode(a.list)
-		a.code, a.place = gauge.Check(b)
-		return a
-	}
-	filters := hardFilters()
+	packet := packetOf(7)
 	var answers []answer
-	for _, b := range filters {
-		answers = append(answers, ask(b))
+	for _, b := range lists {
+		answers = append(answers, answerOf(b, packet))
 	}
-	for i, b := range slices.Backward(filters) {
+	packetBeside, _ := inRoom(packet)
+	for i, b := range slices.Backward(lists) {
 		beside, _ := inRoom(b)
-		if !reflect.DeepEqual(ask(beside), answers[i]) {
+		if !reflect.DeepEqual(answerOf(beside, packetBeside), answers[i]) {
 			t.Fatalf("P2: another answer for % x", b)
 		}
 	}

@@ -7,6 +7,8 @@ import (
 	"gauge/api"
 	"gauge/check"
 	"gauge/insn"
+	"gauge/run"
+	"gauge/stack"
 )
 
 // Bad is what each fault of a filter wraps (P4).
@@ -31,10 +33,28 @@ func Check(filter []byte) (api.Errno, int) {
 func Verify(filter []byte) error { return check.Filter(filter, Bad) }
 
 // Run tells a filter's verdict of a packet (P5).
-func Run(filter []byte, packet []byte) (int, api.Errno) { return 0, api.OK }
+func Run(filter []byte, packet []byte) (int, api.Errno) {
+	if code, _ := Check(filter); code != api.OK {
+		return 0, code
+	}
+	if len(packet) > api.MaxPacket {
+		return 0, api.ErrArg
+	}
+	list, _ := insn.Decode(filter)
+	return int(run.Filter(list, packet)), api.OK
+}
 
 // Exec runs code of the stack machine (P6).
-func Exec(code []byte, packet []byte) (int, int, api.Errno) { return 0, 0, api.OK }
+func Exec(code []byte, packet []byte) (int, int, api.Errno) {
+	if len(packet) > api.MaxPacket {
+		return 0, 0, api.ErrArg
+	}
+	result, steps, ok := stack.Exec(code, packet)
+	if !ok {
+		return 0, steps, api.ErrFault
+	}
+	return int(result), steps, api.OK
+}
 
 // Compile makes code of a filter (P7).
 func Compile(filter []byte) ([]byte, api.Errno) { return nil, api.OK }
