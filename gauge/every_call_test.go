@@ -60,6 +60,7 @@ func TestP1NoPanic(t *testing.T) {
 		if err := gauge.Verify(b); err != nil && err.Error() == "" {
 			t.Fatalf("P1: Verify(% x) tells nothing", b)
 		}
+		gauge.Compile(b)
 		for _, packet := range somePackets() {
 			gauge.Run(b, packet)
 		}
@@ -84,14 +85,18 @@ func TestP1ManyWaysEnd(t *testing.T) {
 	go func() {
 		code, _ := gauge.Check(filterOf(list...))
 		done <- code
+		_, code = gauge.Compile(filterOf(list...))
+		done <- code
 	}()
-	select {
-	case code := <-done:
-		if code != api.OK {
-			t.Errorf("P4: Check = %d", code)
+	for _, call := range []string{"Check", "Compile"} {
+		select {
+		case code := <-done:
+			if code != api.OK {
+				t.Errorf("P4: %s = %d", call, code)
+			}
+		case <-time.After(30 * time.Second):
+			t.Fatalf("P1: %s does not end", call)
 		}
-	case <-time.After(30 * time.Second):
-		t.Fatal("P1: Check does not end")
 	}
 }
 
@@ -99,6 +104,11 @@ func TestP1ErrorAlone(t *testing.T) {
 	for _, n := range []int{0, 1, 4, 9, 8*api.MaxFilter + 8} {
 		if list, code := gauge.Decode(make([]byte, n)); list != nil || code != api.ErrSize {
 			t.Errorf("P1: Decode of %d bytes = %v, %d", n, list, code)
+		}
+	}
+	for _, b := range hardFilters() {
+		if made, code := gauge.Compile(b); code != api.OK && made != nil {
+			t.Fatalf("P1: Compile(% x) = % x, %d", b, made, code)
 		}
 	}
 	for _, packet := range somePackets() {
@@ -139,6 +149,7 @@ func TestP2ArgumentsStay(t *testing.T) {
 		gauge.Check(filter)
 		gauge.Verify(filter)
 		gauge.Run(filter, packet)
+		gauge.Compile(filter)
 		if !bytes.Equal(room, before) {
 			t.Fatalf("P2: a call wrote into % x or beside it", b)
 		}
@@ -202,6 +213,25 @@ func TestP2EncodeIsNew(t *testing.T) {
 	}
 }
 
+func TestP2CompileIsNew(t *testing.T) {
+	list := one(op(0x28, 12), api.Insn{Code: 0x15, Jf: 1, K: 0x0800}, op(0x06, 96), op(0x06, 0))
+	filter := filterOf(list...)
+	first, _ := gauge.Compile(filter)
+	want := bytes.Clone(first)
+	second, _ := gauge.Compile(filter)
+	spoil(first, 0xee)
+	if !bytes.Equal(second, want) {
+		t.Errorf("P2: two answers of Compile share room: % x", second)
+	}
+	if third, _ := gauge.Compile(filter); !bytes.Equal(third, want) {
+		t.Errorf("P2: Compile = % x after an answer was written over", third)
+	}
+	spoil(filter, 0xff)
+	if !bytes.Equal(second, want) {
+		t.Errorf("P2: an answer of Compile hangs on its argument: % x", second)
+	}
+}
+
 func TestP2FaultIsNew(t *testing.T) {
 	filter := ended(op(0x00, 0), op(0x60, 3))
 	var fault *api.Fault
@@ -222,6 +252,7 @@ type answer struct {
 	verdict       int
 	result, steps int
 	fault         api.Errno
+	made          []byte
 }
 
 func answerOf(b, packet []byte) (a answer) {
@@ -230,6 +261,7 @@ func answerOf(b, packet []byte) (a answer) {
 	a.code, a.place = gauge.Check(b)
 	a.verdict, _ = gauge.Run(b, packet)
 	a.result, a.steps, a.fault = gauge.Exec(b, packet)
+	a.made, _ = gauge.Compile(b)
 	return a
 }
 

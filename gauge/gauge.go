@@ -6,6 +6,7 @@ import (
 
 	"gauge/api"
 	"gauge/check"
+	"gauge/compile"
 	"gauge/insn"
 	"gauge/run"
 	"gauge/stack"
@@ -34,14 +35,22 @@ func Verify(filter []byte) error { return check.Filter(filter, Bad) }
 
 // Run tells a filter's verdict of a packet (P5).
 func Run(filter []byte, packet []byte) (int, api.Errno) {
-	if code, _ := Check(filter); code != api.OK {
+	list, code := checked(filter)
+	if code != api.OK {
 		return 0, code
 	}
 	if len(packet) > api.MaxPacket {
 		return 0, api.ErrArg
 	}
-	list, _ := insn.Decode(filter)
 	return int(run.Filter(list, packet)), api.OK
+}
+
+// checked tells the instructions of a filter that passes Check, else the error.
+func checked(filter []byte) ([]api.Insn, api.Errno) {
+	if code, _ := Check(filter); code != api.OK {
+		return nil, code
+	}
+	return insn.Decode(filter)
 }
 
 // Exec runs code of the stack machine (P6).
@@ -57,7 +66,13 @@ func Exec(code []byte, packet []byte) (int, int, api.Errno) {
 }
 
 // Compile makes code of a filter (P7).
-func Compile(filter []byte) ([]byte, api.Errno) { return nil, api.OK }
+func Compile(filter []byte) ([]byte, api.Errno) {
+	list, code := checked(filter)
+	if code != api.OK {
+		return nil, code
+	}
+	return compile.Filter(list), api.OK
+}
 
 // Net is some sockets.
 type Net struct{}

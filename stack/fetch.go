@@ -7,15 +7,15 @@ import (
 
 // The bytes with which instructions begin.
 const (
-	pushWord   = 1
-	pushCell   = 2
-	popCell    = 3
-	reckon     = 4
-	load       = 5
-	pushLength = 6
-	leap       = 7
-	ask        = 8
-	stop       = 9
+	PushWord   = 1
+	PushCell   = 2
+	PopCell    = 3
+	Reckon     = 4
+	Load       = 5
+	PushLength = 6
+	Leap       = 7
+	Ask        = 8
+	Stop       = 9
 )
 
 // instruction is one that has been read from the code.
@@ -33,15 +33,15 @@ type shape struct {
 
 func shapes() map[byte]shape {
 	return map[byte]shape{
-		pushWord:   {number: 4, pushes: 1},
-		pushCell:   {which: 1, pushes: 1},
-		popCell:    {which: 1, pops: 1},
-		reckon:     {which: 1, pops: 2, pushes: 1},
-		load:       {which: 1, pops: 2, pushes: 1},
-		pushLength: {pushes: 1},
-		leap:       {number: 2},
-		ask:        {which: 1, number: 2, pops: 2},
-		stop:       {pops: 1},
+		PushWord:   {number: 4, pushes: 1},
+		PushCell:   {which: 1, pushes: 1},
+		PopCell:    {which: 1, pops: 1},
+		Reckon:     {which: 1, pops: 2, pushes: 1},
+		Load:       {which: 1, pops: 2, pushes: 1},
+		PushLength: {pushes: 1},
+		Leap:       {number: 2},
+		Ask:        {which: 1, number: 2, pops: 2},
+		Stop:       {pops: 1},
 	}
 }
 
@@ -72,13 +72,13 @@ func (m *machine) fits(in instruction) bool {
 
 func known(in instruction) bool {
 	switch in.op {
-	case pushCell, popCell:
+	case PushCell, PopCell:
 		return in.which < cells
-	case reckon:
+	case Reckon:
 		return in.which < uint32(word.Operators)
-	case load:
+	case Load:
 		return in.which == 1 || in.which == 2 || in.which == 4
-	case ask:
+	case Ask:
 		return in.which < uint32(word.Questions)
 	}
 	return true

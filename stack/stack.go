@@ -40,31 +40,31 @@ func Exec(code, packet []byte) (result uint32, steps int, ok bool) {
 func (m *machine) do(in instruction) {
 	w := in.number
 	switch in.op {
-	case pushCell:
+	case PushCell:
 		w = m.cells[in.which]
 		fallthrough
-	case pushWord:
+	case PushWord:
 		m.push(w)
-	case pushLength:
+	case PushLength:
 		m.push(uint32(len(m.packet)))
-	case popCell:
+	case PopCell:
 		m.cells[in.which] = m.pop()
-	case reckon:
+	case Reckon:
 		y, x := m.pop(), m.pop()
 		m.pushOrStop(word.Reckon(word.Operator(in.which), x, y))
-	case load:
+	case Load:
 		y, x := m.pop(), m.pop()
 		from := int(x) + int(y) // not as words, which would wrap round
 		m.pushOrStop(word.Load(m.packet, from, int(in.which)))
-	case ask:
+	case Ask:
 		y, x := m.pop(), m.pop()
 		if !word.Holds(word.Question(in.which), x, y) {
 			break
 		}
 		fallthrough
-	case leap:
+	case Leap:
 		m.at += int(w)
-	case stop:
+	case Stop:
 		m.stop(m.pop())
 	}
 }
