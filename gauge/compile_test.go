@@ -351,36 +351,3 @@ func TestP7RandomPrograms(t *testing.T) {
 		t.Errorf("only %d filters with a verdict that is not 0", some)
 	}
 }
-
-// P9: Run, and Exec of what Compile makes, agree: also of filters that are refused, as both refuse them.
-func TestP9RunAndCodeAgree(t *testing.T) {
-	r := source()
-	filters := hardFilters()
-	for range 3000 {
-		filters = append(filters, filterOf(randomProgram(r)...), filterOf(longProgram(r)...))
-	}
-	for _, b := range filters {
-		code, errno := gauge.Compile(b)
-		for _, packet := range somePackets() {
-			verdict, runErrno := gauge.Run(b, packet)
-			if errno != api.OK {
-				if runErrno != errno {
-					t.Fatalf("P9: Compile(% x) tells %d, and Run %d", b, errno, runErrno)
-				}
-				continue
-			}
-			if result, _, execErrno := gauge.Exec(code, packet); result != verdict || execErrno != runErrno {
-				t.Fatalf("P9: Run(% x) of %d bytes = %d, %d, and by code %d, %d", b, len(packet), verdict, runErrno, result, execErrno)
-			}
-		}
-	}
-}
-
-// P9: no instruction is done twice: each counts here that it is done.
-func TestP9EachInstructionOnce(t *testing.T) {
-	for n := range api.MaxFilter {
-		list := row(slices.Repeat(one(op(0x04, 1)), n), giveA)
-		mustRun(t, nil, n, list...)
-		mustDo(t, mustCompile(t, list), list, nil, n)
-	}
-}

@@ -9,6 +9,7 @@ import (
 	"gauge/compile"
 	"gauge/insn"
 	"gauge/run"
+	"gauge/sockets"
 	"gauge/stack"
 )
 
@@ -75,22 +76,65 @@ func Compile(filter []byte) ([]byte, api.Errno) {
 }
 
 // Net is some sockets.
-type Net struct{}
+type Net struct{ row sockets.Row }
 
 // New makes sockets without filters (P8).
-func New() *Net { return nil }
+func New() *Net { return &Net{} }
 
 // Attach gives a socket a filter (P8).
-func (n *Net) Attach(socket int, filter []byte, compiled bool) api.Errno { return api.OK }
+func (n *Net) Attach(socket int, filter []byte, compiled bool) api.Errno {
+	s, err := n.row.Find(socket)
+	if err != nil {
+		return errnoOf(err)
+	}
+	list, code := checked(filter)
+	if code != api.OK {
+		return code
+	}
+	s.Attach(list, compiled)
+	return api.OK
+}
 
 // Detach takes a socket's filter away (P8).
-func (n *Net) Detach(socket int) api.Errno { return api.OK }
+func (n *Net) Detach(socket int) api.Errno {
+	s, err := n.row.Find(socket)
+	if err != nil {
+		return errnoOf(err)
+	}
+	return errnoOf(s.Detach())
+}
 
 // Frame: a packet comes in (P8).
-func (n *Net) Frame(packet []byte) api.Errno { return api.OK }
+func (n *Net) Frame(packet []byte) api.Errno { return errnoOf(n.row.Frame(packet)) }
 
 // Receive takes what waits first (P8).
-func (n *Net) Receive(socket int) ([]byte, api.Errno) { return nil, api.OK }
+func (n *Net) Receive(socket int) ([]byte, api.Errno) {
+	s, err := n.row.Find(socket)
+	if err != nil {
+		return nil, errnoOf(err)
+	}
+	packet, err := s.Receive()
+	return packet, errnoOf(err)
+}
 
 // Dropped tells how many packets found no room (P8).
-func (n *Net) Dropped(socket int) int { return 0 }
+func (n *Net) Dropped(socket int) int {
+	s, err := n.row.Find(socket)
+	if err != nil {
+		return 0
+	}
+	return s.Dropped()
+}
+
+// errnoOf tells the number of an error that sockets have.
+func errnoOf(err error) api.Errno {
+	switch {
+	case errors.Is(err, sockets.NoSocket), errors.Is(err, sockets.TooLong):
+		return api.ErrArg
+	case errors.Is(err, sockets.NoFilter):
+		return api.ErrFree
+	case errors.Is(err, sockets.Nothing):
+		return api.ErrEmpty
+	}
+	return api.OK
+}
